@@ -1,0 +1,1 @@
+"""Checklists of two schools joined."""
