@@ -39,6 +39,34 @@ def quick():
     return [6]
 
 
+def exact(c, d):
+    return [7, c, d]
+
+
+def matrix():
+    return [8]
+
+
+def model():
+    return [9]
+
+
+def conflict():
+    return [10]
+
+
+def translate(c):
+    return [11, c]
+
+
+def placed(key):
+    return [12, key]
+
+
+def built():
+    return [13]
+
+
 def ask(*calls):
     """Each call's answer as a list of its own."""
     numbers = [number for call in calls for number in call]

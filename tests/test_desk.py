@@ -21,6 +21,13 @@ class Answers(unittest.TestCase):
         self.assertEqual([1, 0], answers([4, 1, 0, 0]))
         self.assertEqual([1, -1], answers([5, 1]))
         self.assertEqual([1, 0], answers([6]))
+        self.assertEqual([1, -1], answers([7, 0, 100]))
+        self.assertEqual([1, 0], answers([8]))
+        self.assertEqual([3, 1, -1, -1], answers([9]))
+        self.assertEqual([1, -2], answers([10]))
+        self.assertEqual([1, -1], answers([11, 0]))
+        self.assertEqual([1, -1], answers([12, 1]))
+        self.assertEqual([1, 0], answers([13]))
 
     def test_several_calls(self):
         calls = [0, 0, 4, 65, 10, 32, 66,  # A with its part B

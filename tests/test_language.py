@@ -1,6 +1,7 @@
 """The package keeps to the part of Python that it is written in, as far as a short look at its files can tell."""
 
 import ast
+import builtins
 import pathlib
 import re
 import unittest
@@ -21,6 +22,15 @@ NODES = (ast.Module, ast.FunctionDef, ast.arguments, ast.arg, ast.ClassDef, ast.
          ast.Set, ast.ListComp, ast.comprehension, ast.Compare, ast.Call, ast.JoinedStr, ast.FormattedValue,
          ast.Constant, ast.Attribute, ast.Subscript, ast.Slice, ast.Name, ast.List, ast.Tuple, ast.keyword,
          ast.expr_context, ast.boolop, ast.operator, ast.unaryop, ast.cmpop)
+
+# Names that Python's own values have; an object's own methods and values are called otherwise, but for these.
+TAKEN = {name for kind in (str, int, list, dict, set, frozenset, tuple, bytes) for name in dir(kind)}
+FREE_METHODS = METHODS | {"add", "discard", "__init__", "__eq__", "__repr__", "__str__", "__len__"}
+FREE_VALUES = set("count index title find get join lower upper split strip copy add".split())
+
+NAMES_NOT_USED = set("""register mro elements open input version_info with_traceback add_note attrgetter breakpoint
+builtins compile copyright credits delattr dir eval exec exit gc getattr globals hasattr help id importlib license
+locals methodcaller os quit setattr super type vars sys chr print""".split())
 
 WORDS_LEFT_OUT = re.compile(r"\b(type|typing|enum|Enum|Flag|Generic|Protocol|ABC|namedtuple|NamedTuple)\b"
                             r"|dataclass|overload|contextmanager")
@@ -110,6 +120,47 @@ class Code(unittest.TestCase):
                     self.assertIn(node.id, bound | BUILT_IN, (path, node.lineno))
                 if isinstance(node, ast.Call) and isinstance(node.func, ast.Attribute):
                     self.assertIn(node.func.attr, own_methods | METHODS, (path, node.lineno))
+
+    def test_names_of_methods_and_values(self):
+        methods = set()
+        values = set()
+        for path in files():
+            for node in nodes(path):
+                if isinstance(node, ast.ClassDef):
+                    methods |= {one.name for one in node.body if isinstance(one, ast.FunctionDef)}
+                if isinstance(node, ast.Attribute) and isinstance(node.ctx, ast.Store):
+                    values.add(node.attr)
+        self.assertEqual(set(), methods & TAKEN - FREE_METHODS)
+        self.assertEqual(set(), values & TAKEN - FREE_VALUES)
+        self.assertEqual(set(), methods & values)
+
+    def test_names_that_are_not_used(self):
+        for path in files():
+            tree = nodes(path)
+            bound = names_bound(tree)
+            self.assertEqual(set(), bound & (set(dir(builtins)) | NAMES_NOT_USED), path)
+            for name in bound:
+                self.assertRegex(name, r"\A([A-Za-z][A-Za-z0-9_]*|__init__)\Z", path)
+            for node in tree:
+                if isinstance(node, ast.Attribute):
+                    self.assertNotIn(node.attr, NAMES_NOT_USED, (path, node.lineno))
+
+    def test_no_parameter_or_local_is_called_like_an_import_or_class(self):
+        for path in files():
+            tree = nodes(path)
+            taken = {node.name for node in tree if isinstance(node, (ast.alias, ast.ClassDef))}
+            inner = {node.arg for node in tree if isinstance(node, ast.arg)}
+            inner |= {node.id for node in tree if isinstance(node, ast.Name) and isinstance(node.ctx, ast.Store)}
+            self.assertEqual(set(), taken & inner, path)
+
+    def test_files_draw_from_one_another_in_one_direction(self):
+        drawn = {path.stem: {node.module.split(".")[1] for node in nodes(path) if isinstance(node, ast.ImportFrom)}
+                 for path in files()}
+        while drawn:
+            free = [name for name in drawn if not drawn[name] & set(drawn)]
+            self.assertNotEqual([], free, drawn)
+            for name in free:
+                drawn.pop(name)
 
 
 if __name__ == "__main__":

@@ -7,125 +7,8 @@ import unittest
 from twolists.table import quick_table
 
 from asking import APART, EQUAL, HOLDS, OVERLAP, WITHIN, ask, drop, last, load, quick, record, tell, withdraw
-
-RELATIONS = (EQUAL, WITHIN, HOLDS, OVERLAP, APART)
-
-
-def relation_of(first, second):
-    """The relation of two sets that aren't empty."""
-    if first == second:
-        return EQUAL
-    if first < second:
-        return WITHIN
-    if first > second:
-        return HOLDS
-    return OVERLAP if first & second else APART
-
-
-def turned(mask):
-    return mask & (EQUAL | OVERLAP | APART) | (HOLDS if mask & WITHIN else 0) | (WITHIN if mask & HOLDS else 0)
-
-
-def compositions_by_sets():
-    """What may hold of a first and a third set, from all ways that three sets can lie."""
-    found = {}
-    regions = range(1, 8)
-    for bits in range(1, 128):
-        filled = [region for region in regions if bits >> (region - 1) & 1]
-        sets = [{region for region in filled if region >> place & 1} for place in range(3)]
-        if all(sets):
-            pair = (relation_of(sets[0], sets[1]), relation_of(sets[1], sets[2]))
-            found[pair] = found.get(pair, 0) | relation_of(sets[0], sets[2])
-    return found
-
-
-COMPOSITIONS = compositions_by_sets()
-
-
-def compose_masks(first, second):
-    found = 0
-    for r, s in itertools.product(RELATIONS, RELATIONS):
-        if first & r and second & s:
-            found |= COMPOSITIONS[(r, s)]
-    return found
-
-
-class Tree:
-    """A list for the tests, made by saying what each concept is a part of."""
-
-    def __init__(self, side, parents, pluses=()):
-        self.side = side
-        self.parents = parents
-        self.pluses = pluses
-
-    def numbers(self):
-        return [100 * self.side + place for place in range(len(self.parents))]
-
-    def chain(self, number):
-        found = []
-        place = number % 100
-        while place is not None:
-            found.append(100 * self.side + place)
-            place = self.parents[place]
-        return found
-
-    def text(self):
-        return "\n".join(" " * (len(self.chain(number)) - 1) + "abcdefgh"[number % 100]
-                         + (" +" if number % 100 in self.pluses else "") for number in self.numbers())
-
-
-def random_tree(rng, side):
-    parents = [None]
-    path = [0]
-    for place in range(1, rng.randint(1, 8)):
-        path = path[:rng.randint(0, len(path))]
-        parents.append(path[-1] if path else None)
-        path.append(place)
-    with_parts = [place for place in range(len(parents)) if place in parents]
-    return Tree(side, parents, [place for place in with_parts if rng.random() < 0.4])
-
-
-def expected_quick(trees, told, records, rng):
-    """quick's answer, worked out pair by pair in an order of its own."""
-    chains = {number: tree.chain(number) for tree in trees for number in tree.numbers()}
-    table = {}
-    for c, d in itertools.product(chains, chains):
-        if c // 100 != d // 100:
-            allowed = set(RELATIONS)
-        elif c == d:
-            allowed = {EQUAL}
-        elif d in chains[c]:
-            allowed = {EQUAL, WITHIN}
-        elif c in chains[d]:
-            allowed = {EQUAL, HOLDS}
-        else:
-            allowed = {APART}
-        for first, second, mask in told:
-            if (first, second) == (c, d):
-                allowed = {r for r in allowed if r & mask}
-            if (first, second) == (d, c):
-                allowed = {r for r in allowed if turned(r) & mask}
-        for first, second in records:
-            if c in first and d in first:
-                allowed = allowed - {APART}
-            if c in first and d in second:
-                allowed = allowed - {EQUAL, WITHIN}
-            if c in second and d in first:
-                allowed = allowed - {EQUAL, HOLDS}
-        table[(c, d)] = sum(allowed)
-    triples = list(itertools.product(chains, chains, chains))
-    rng.shuffle(triples)
-    known = {}
-    before = None
-    while before != table:
-        before = dict(table)
-        for c, d, e in triples:
-            pair = (table[(c, e)], table[(e, d)])
-            if pair not in known:
-                known[pair] = compose_masks(*pair)
-            table[(c, d)] &= known[pair]
-    masks = [table[(c, d)] for c in trees[0].numbers() for d in trees[1].numbers()]
-    return [len(masks)] + masks
+from second_way import COMPOSITIONS, quick_by_triples
+from trees import RELATIONS, random_sets, random_tree, relation_of
 
 
 class OneConceptEach(unittest.TestCase):
@@ -359,28 +242,19 @@ class AgainstASecondWay(unittest.TestCase):
             calls += [tell(key, *one) for key, one in enumerate(told, 1)]
             calls += [record(key, *one) for key, one in enumerate(records, 1)]
             answer = last(*calls, quick())
-            self.assertEqual(expected_quick(trees, told, records, rng), answer, (calls, told, records))
+            table = quick_by_triples(trees, told, records, rng)
+            masks = [table[(c, d)] for c in trees[0].numbers() for d in trees[1].numbers()]
+            self.assertEqual([len(masks)] + masks, answer, (calls, told, records))
             narrowed += any(0 < mask < 31 for mask in answer[1:])
         self.assertGreater(narrowed, 80)
 
 
 class AgainstRealSets(unittest.TestCase):
-    def random_sets(self, rng, trees):
-        sets = {number: set() for tree in trees for number in tree.numbers()}
-        things = 0
-        while not all(sets.values()) or rng.random() < 0.8:
-            for tree in trees:
-                deepest = rng.choice(tree.numbers() + [None])
-                for number in tree.chain(deepest) if deepest is not None else []:
-                    sets[number].add(things)
-            things += 1
-        return sets, things
-
     def test_what_holds_is_never_taken_away(self):
         rng = random.Random(21)
         for turn in range(200):
             trees = [random_tree(rng, 0), random_tree(rng, 1)]
-            sets, things = self.random_sets(rng, trees)
+            sets, things = random_sets(rng, trees)
             numbers = list(sets)
             calls = [load(side, trees[side].text()) for side in (0, 1)]
             for key in range(1, rng.randint(1, 20)):

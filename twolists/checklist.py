@@ -18,11 +18,14 @@ class Row:
 
 
 class Checklist:
-    """The list of one side: its text as it was loaded, and each concept's chain by the concept's number."""
+    """The list of one side: its text as it was loaded, each concept's chain by the concept's number, and the concepts
+    in which a thing can lie deepest.
+    """
 
     def __init__(self, side, text, rows):
         self.text = text
         self.chains = chains_of(side, rows)
+        self.deepest = [number for number, row in zip(self.chains, rows) if not row.plus]
 
 
 def split_lines(text):

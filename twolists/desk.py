@@ -44,8 +44,41 @@ def ask_quick(comparison, reader):
     return comparison.quick()
 
 
+def ask_exact(comparison, reader):
+    c = reader.next_number()
+    d = reader.next_number()
+    return comparison.exact(c, d)
+
+
+def ask_matrix(comparison, reader):
+    return comparison.matrix()
+
+
+def ask_model(comparison, reader):
+    return comparison.model()
+
+
+def ask_conflict(comparison, reader):
+    return comparison.conflict()
+
+
+def ask_translate(comparison, reader):
+    c = reader.next_number()
+    return comparison.translation(c)
+
+
+def ask_placed(comparison, reader):
+    key = reader.next_number()
+    return comparison.placed(key)
+
+
+def ask_built(comparison, reader):
+    return comparison.built()
+
+
 # By a call's number.
-CALLS = (ask_load, ask_show, ask_tell, ask_withdraw, ask_record, ask_drop, ask_quick)
+CALLS = (ask_load, ask_show, ask_tell, ask_withdraw, ask_record, ask_drop, ask_quick,
+         ask_exact, ask_matrix, ask_model, ask_conflict, ask_translate, ask_placed, ask_built)
 
 
 def answers(calls):

@@ -39,5 +39,12 @@ class Ledger:
         return 0
 
     def entries(self):
-        """What is in force, in the order in which it was entered."""
-        return list(self.in_force.values())
+        """What is in force, by keys ascending, as a dict of its own."""
+        found = {}
+        for key in sorted(self.in_force):
+            found[key] = self.in_force[key]
+        return found
+
+    def entry_list(self):
+        """What is in force, without the keys, by keys ascending."""
+        return list(self.entries().values())

@@ -19,6 +19,11 @@ COMPOSED = {
 }
 
 
+def relations_in(mask):
+    """The relations of a mask, in the order equal, within, holds, overlap, apart."""
+    return [relation for relation in RELATIONS if mask & relation]
+
+
 def turn_relation(relation):
     """The relation of d to c, where c has this one to d."""
     if relation == WITHIN:
@@ -30,7 +35,7 @@ def turn_relation(relation):
 
 def turn_mask(mask):
     """The mask of (d, c), where that of (c, d) is this one."""
-    return sum([turn_relation(relation) for relation in RELATIONS if mask & relation])
+    return sum([turn_relation(relation) for relation in relations_in(mask)])
 
 
 def compose(first, second):
@@ -45,9 +50,8 @@ def compose(first, second):
 def compose_with_mask(first, mask):
     """The mask of all compositions of one relation with a relation of the mask."""
     found = 0
-    for second in RELATIONS:
-        if mask & second:
-            found = found | compose(first, second)
+    for second in relations_in(mask):
+        found = found | compose(first, second)
     return found
 
 
